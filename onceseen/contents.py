@@ -1,7 +1,7 @@
 """Contents: sets of pairs of a cell and a version, such as a look shows."""
 
-from onceseen.checks import check_cell, check_cells, is_list, is_pair
-from onceseen.errors import InvalidCell, InvalidPairs
+from onceseen.checks import check_cell, check_cell_list, check_cells, is_list, is_pair
+from onceseen.errors import InvalidPairs
 
 
 class Content:
@@ -20,8 +20,7 @@ class Content:
     def at(cls, history, moment, cells):
         """The Content of the versions that these cells have at the moment."""
         past = history.until(moment)
-        if not is_list(cells):
-            raise InvalidCell(cells)
+        check_cell_list(cells)
         return cls([(cell, past.version(cell)) for cell in cells])
 
     def pairs(self):

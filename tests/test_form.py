@@ -17,6 +17,19 @@ CALLED = {
     "getattr", "hasattr", "setattr", "super",
 }
 DECORATORS = {"property", "classmethod", "staticmethod"}
+
+# Where the interface lists its classes and functions.
+INTERFACE = {
+    "history": ["History"], "contents": ["Content"], "moments": ["moments_of", "is_of", "bar_of", "is_bar"],
+    "ladders": ["Ladder"], "margins": ["Margins"], "floors": ["Floor"], "books": ["Book"], "runs": ["Run"],
+    "work": ["work", "work_at", "least_work", "greatest_work", "mean_work", "turns", "growth", "widest"],
+}
+
+# Words that stand nowhere in the code, comments and docstrings left out.
+BARRED = {
+    "register", "mro", "elements", "open", "input", "law", "version_info", "with_traceback", "add_note", "typing",
+    "enum", "Enum", "Flag", "Generic", "Protocol", "ABC", "namedtuple", "dataclass", "overload", "contextmanager",
+}
 LIBRARY = {"heapq", "math", "itertools", "collections", "sys", "__future__"}
 
 
@@ -36,6 +49,21 @@ def nodes(kind):
 def defined(tree):
     """The names that a file itself defines at its top."""
     return [node.name for node in tree.body if isinstance(node, (ast.FunctionDef, ast.ClassDef))]
+
+
+def bound(tree):
+    """The names that the parameters and assignments, loops and comprehensions of functions give a meaning."""
+    names = [node.arg for node in ast.walk(tree) if isinstance(node, ast.arg)]
+    return names + [node.id for node in ast.walk(tree) if isinstance(node, ast.Name) and isinstance(node.ctx, ast.Store)]
+
+
+def is_call_of(node, *names):
+    return isinstance(node, ast.Call) and isinstance(node.func, ast.Name) and node.func.id in names
+
+
+def plainly_number(node):
+    """Whether the code shows that this is a number or a string, so that no class's own order is asked."""
+    return isinstance(node, ast.Constant) or is_call_of(node, "int", "len", "str")
 
 
 class Files(unittest.TestCase):
@@ -92,8 +120,91 @@ class Parts(unittest.TestCase):
             self.assertFalse(isinstance(node.value, str) and "%" in node.value, name)
 
     def test_statements_and_signs_that_are_left_out(self):
-        left_out = (ast.AsyncFunctionDef, ast.AsyncFor, ast.AsyncWith, ast.Await, ast.Div)
+        left_out = (ast.AsyncFunctionDef, ast.AsyncFor, ast.AsyncWith, ast.Await, ast.Div, ast.GeneratorExp, ast.Global)
         self.assertEqual([name for name, _ in nodes(left_out)], [])
+
+    def test_the_interface_is_defined_where_it_is_listed(self):
+        homes = {name[:-3]: defined(tree) for name, tree in trees()}
+        for home, names in INTERFACE.items():
+            for name in names:
+                self.assertIn(name, homes[home])
+
+
+class Names(unittest.TestCase):
+
+    def test_no_name_has_the_meaning_of_a_builtin(self):
+        for name, tree in trees():
+            for word in bound(tree) + defined(tree):
+                self.assertFalse(hasattr(builtins, word), (name, word))
+
+    def test_no_name_of_a_function_is_that_of_a_class_or_an_import_of_its_file(self):
+        for name, tree in trees():
+            imports = [alias.name for node in tree.body if isinstance(node, ast.ImportFrom) for alias in node.names]
+            classes = [node.name for node in tree.body if isinstance(node, ast.ClassDef)]
+            self.assertEqual(set(bound(tree)) & {*imports, *classes}, set(), name)
+
+    def test_each_name_is_bound_once_in_its_file(self):
+        for name, tree in trees():
+            names = [alias.name for node in tree.body if isinstance(node, ast.ImportFrom) for alias in node.names]
+            names += defined(tree)
+            names += [target.id for node in tree.body if isinstance(node, ast.Assign) for target in node.targets]
+            self.assertEqual(len(names), len(set(names)), name)
+
+    def test_words_that_are_not_used(self):
+        for name, tree in trees():
+            words = bound(tree) + defined(tree)
+            words += [node.attr for node in ast.walk(tree) if isinstance(node, ast.Attribute)]
+            self.assertEqual(set(words) & BARRED, set(), name)
+
+    def test_names_begin_with_at_most_one_underscore(self):
+        for name, tree in trees():
+            for word in bound(tree) + [node.attr for node in ast.walk(tree) if isinstance(node, ast.Attribute)]:
+                self.assertFalse(word.startswith("__"), (name, word))
+
+    def test_no_name_is_a_method_and_an_attribute_or_a_property_and_another_method(self):
+        methods, properties, attributes = [], [], []
+        for _, node in nodes(ast.ClassDef):
+            for part in node.body:
+                if isinstance(part, ast.FunctionDef):
+                    plain = [decorator.id for decorator in part.decorator_list] != ["property"]
+                    (methods if plain else properties).append(part.name)
+        for _, node in nodes(ast.Attribute):
+            if isinstance(node.ctx, ast.Store):
+                attributes.append(node.attr)
+        self.assertEqual(set(methods) & set(attributes), set())
+        self.assertEqual(set(properties) & set(attributes), set())
+        self.assertEqual(set(properties) & set(methods), set())
+
+
+class Comparing(unittest.TestCase):
+    """Where a class has an order, numbers are compared only where the code shows that they are numbers."""
+
+    def test_sorted_takes_sets_or_plain_strings(self):
+        for name, node in nodes(ast.Call):
+            if is_call_of(node, "sorted"):
+                one, = node.args
+                plain = isinstance(one, ast.ListComp) and plainly_number(one.elt)
+                self.assertTrue(plain or is_call_of(one, "set"), (name, node.lineno))
+
+    def test_min_and_max_take_plain_numbers(self):
+        for name, node in nodes(ast.Call):
+            if is_call_of(node, "min", "max"):
+                if len(node.args) == 1:
+                    self.assertIsInstance(node.args[0], ast.ListComp, (name, node.lineno))
+                    self.assertTrue(plainly_number(node.args[0].elt), (name, node.lineno))
+                else:
+                    self.assertTrue(any(plainly_number(arg) for arg in node.args), (name, node.lineno))
+
+    def test_is_stands_beside_none_or_between_kinds(self):
+        for name, node in nodes(ast.Compare):
+            if any(isinstance(op, (ast.Is, ast.IsNot)) for op in node.ops):
+                other = node.comparators[0]
+                none = isinstance(other, ast.Constant) and other.value in (None, True, False)
+                self.assertTrue(none or is_call_of(node.left, "type") and is_call_of(other, "type"), name)
+
+    def test_no_list_is_sorted_in_its_place(self):
+        for name, node in nodes(ast.Attribute):
+            self.assertNotEqual(node.attr, "sort", name)
 
 
 if __name__ == "__main__":
