@@ -1,10 +1,13 @@
 """What passes for a number, a stretch, a pair or a deed, and the errors of parameters that many calls share."""
 
-from onceseen.errors import (InvalidCell, InvalidCount, InvalidEdit, InvalidLevel, InvalidLook, InvalidMoment,
-                             InvalidStretch, InvalidTile)
+from onceseen.errors import (InvalidCell, InvalidCount, InvalidEdit, InvalidEdits, InvalidLevel, InvalidLook,
+                             InvalidMoment, InvalidStretch, InvalidTile, InvalidWish, NotHeld)
 
 # How many numbers stand behind the word of a deed.
 DEED_NUMBERS = {"edit": 2, "begin": 2, "end": 1, "look": 3}
+
+# The wishes behind the first one are for a single cell and a single tile.
+WISHES = ("whole", "fresh", "forward")
 
 
 def is_integer(value):
@@ -142,3 +145,24 @@ def check_positive(value):
     """Raise InvalidCount unless this is an INTEGER greater than 0, such as a width."""
     if not is_integer(value) or value < 1:
         raise InvalidCount(value)
+
+
+def check_held(ladder, look, cells):
+    """Raise NotHeld with the first of these cells that no tile of the look holds."""
+    level, first, last = look
+    low, high = ladder.held(level, first)[0], ladder.held(level, last)[1]
+    for cell in cells:
+        if not low <= cell <= high:
+            raise NotHeld(level, first, cell)
+
+
+def check_edits(edits):
+    """Raise InvalidEdits unless this is a number of watched edits."""
+    if not is_integer(edits) or not 1 <= edits <= 2:
+        raise InvalidEdits(edits)
+
+
+def check_wish(wish, single):
+    """Raise InvalidWish unless this is a wish, or, where there is no single cell and tile, the first one."""
+    if not isinstance(wish, str) or wish not in WISHES or not (single or wish == WISHES[0]):
+        raise InvalidWish(wish)

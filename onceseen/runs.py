@@ -165,7 +165,7 @@ class Run:
         """Whether a drawing of the tile is under way."""
         return any([drawing.of(level, tile) for drawing in self._board.drawings.values()])
 
-    def _picture(self, level, tile):
+    def picture(self, level, tile):
         """The pieces that the tile shows."""
         first, last = self._book.ladder.held(level, tile)
         return self._board.pictures.get((level, tile), [(first, last, 0)])
@@ -173,7 +173,7 @@ class Run:
     def _sight(self, look):
         """The pieces that all tiles of the look show."""
         level, first, last = look
-        return [piece for tile in range(first, last + 1) for piece in self._picture(level, tile)]
+        return [piece for tile in range(first, last + 1) for piece in self.picture(level, tile)]
 
     def marked(self, level):
         """The sorted list of the marked tiles of the level."""
@@ -190,7 +190,7 @@ class Run:
         """The version of the cell that the tile shows."""
         if not self._book.ladder.holds(level, tile, cell):
             raise NotHeld(level, tile, cell)
-        return [version for first, last, version in self._picture(level, tile) if first <= cell <= last][0]
+        return [version for first, last, version in self.picture(level, tile) if first <= cell <= last][0]
 
     def content(self, look, cells):
         """The Content of all pairs with these cells that the tiles of the look show."""
@@ -256,7 +256,7 @@ class Run:
         low, high = ladder.parts(level, tile)
         for part in range(low, high + 1):
             begin, end = ladder.owned(level - 1, part)
-            pieces.extend(pieces_within(self._picture(level - 1, part), max(int(begin), first), min(int(end), last)))
+            pieces.extend(pieces_within(self.picture(level - 1, part), max(int(begin), first), min(int(end), last)))
         return pieces
 
     def begin(self, level, tile):

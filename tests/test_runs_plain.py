@@ -5,36 +5,16 @@ import random
 import unittest
 from itertools import product
 
-from onceseen.books import Book
 from onceseen.contents import Content
 from onceseen.errors import LimitError, MissingError, StateError, StripError
 from onceseen.history import History
-from onceseen.ladders import Ladder
-from onceseen.margins import Margins
 from onceseen.runs import Run
 from tests.checking import Case
+from tests.drawing import drawn_book, drawn_look
 from tests.plain_run import PlainRun
 from tests.test_books import ALL_CARES
 
 OWN_ERRORS = (StripError, MissingError, StateError, LimitError)
-
-
-def drawn_book(draw, cares):
-    """A small book of these cares, with a ladder and margins as they are drawn."""
-    factors = [draw.choice((2, 2, 3, 4)) for _ in range(draw.choice((0, 1, 1, 2)))]
-    sides = Ladder(draw.choice((1, 2, 3)), factors).sides()
-    # Small edges are likelier, but whole sides are drawn as well.
-    edges = [tuple(draw.choice((0, 0, 1, side - 1, side)) for _ in range(2)) for side in sides]
-    ladder = Ladder(sides[0], factors, edges)
-    if draw.random() < 0.5:
-        return Book(Margins(ladder), **cares)
-    return Book(Margins(ladder, [tuple(draw.choice((0, 1, side)) for _ in range(2)) for side in sides]), **cares)
-
-
-def drawn_look(draw, book):
-    level = draw.randrange(book.ladder.levels)
-    first = draw.randrange(-3, 3)
-    return (level, first, first + (draw.randrange(2) if level < 2 else 0))
 
 
 class Pair:
@@ -124,17 +104,17 @@ class Drawn(Case):
     def test_all_cares(self):
         for number, cares in enumerate(ALL_CARES * 2):
             draw = random.Random(number)
-            self.row(draw, drawn_book(draw, cares), 30)
+            self.row(draw, drawn_book(draw, **cares), 30)
 
     def test_long_rows(self):
         for number in range(12):
             draw = random.Random(1000 + number)
-            self.row(draw, drawn_book(draw, draw.choice(ALL_CARES)), 150)
+            self.row(draw, drawn_book(draw), 150)
 
     def test_trying_copies_and_lists_of_deeds(self):
         for number in range(60):
             draw = random.Random(2000 + number)
-            book = drawn_book(draw, draw.choice(ALL_CARES))
+            book = drawn_book(draw)
             pair = Pair(self, Run(book), PlainRun(book))
             for _ in range(25):
                 pair.step(draw)
