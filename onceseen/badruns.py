@@ -1,6 +1,6 @@
 """Bad runs: lists of deeds, such as a Run of the book can do, the last of which shows the fault."""
 
-from onceseen.checks import check_look, check_wish, is_deed, is_list
+from onceseen.checks import check_look, check_wish, is_list
 from onceseen.errors import DeedFailed
 from onceseen.runs import Run
 from onceseen.states import position_of

@@ -105,8 +105,8 @@ class System:
     def kind(self):
         """What the systems that are like this one have in common: their table hangs on nothing else."""
         cares = self._book.cares()
-        level, first, last = self._look
-        tiles = [(lower, lower == level, *flags) for (lower, _), flags in zip(self._watched, self._flags)]
+        look_level = self._look[0]
+        tiles = [(level, level == look_level, *flags) for (level, _), flags in zip(self._watched, self._flags)]
         bundles = [tuple(self.bundles(kind)) for kind in range(3)]
         return (tuple([cares[name] for name in CARES]), self._edits, tuple(tiles), tuple(bundles))
 

@@ -1,4 +1,4 @@
-"""A plain reading of watched systems for the tests: states as the document tells them, and stretches tried one by one."""
+"""A plain reading of watched systems for the tests: states as the document tells them, stretches tried one by one."""
 
 from itertools import combinations_with_replacement, product
 

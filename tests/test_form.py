@@ -26,6 +26,8 @@ INTERFACE = {
     "systems": ["System"], "certificates": ["never", "wrong_states", "is_certificate"],
     "badruns": ["bad_run", "is_bad_run"],
     "places": ["ends", "place_of", "places", "are_like", "keeps", "first_fault", "kinds"],
+    "cares": ["is_safe", "freest", "needless", "mends"], "texts": ["text_of", "read_book", "line_of", "read_deed"],
+    "claims": ["is_paper", "is_true", "paper_for"], "desk": ["Desk"],
 }
 
 # Words that stand nowhere in the code, comments and docstrings left out.

@@ -240,7 +240,8 @@ class Keeping(Case):
         for number in range(start, start + 10000):
             draw = random.Random(number)
             factors = draw.choice(([], [2], [2], [3], [2, 2]))
-            ladder = Ladder(draw.choice((1, 2)), factors, [(draw.choice((0, 0, 1)), 0) for _ in range(len(factors) + 1)])
+            edges = [(draw.choice((0, 0, 1)), 0) for _ in range(len(factors) + 1)]
+            ladder = Ladder(draw.choice((1, 2)), factors, edges)
             margins = Margins(ladder, draw.choice((None, [(0, 0)] * ladder.levels, [(0, 1)] * ladder.levels)))
             book = Book(margins, **{**draw.choice(ALL_CARES), "hands": draw.choice((1, 1, 1, 2))})
             level = draw.randrange(ladder.levels)

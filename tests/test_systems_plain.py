@@ -2,9 +2,9 @@
 
 import random
 import unittest
-from itertools import islice, product
+from itertools import combinations_with_replacement, islice, product
 
-from onceseen.badruns import bad_run, is_bad_run
+from onceseen.badruns import Play, bad_run, is_bad_run
 from onceseen.books import Book
 from onceseen.certificates import is_certificate, never, wrong_states
 from onceseen.errors import InvalidState, LimitError, TooMany
@@ -133,14 +133,14 @@ class BadRuns(Case):
 
 
 class Follower:
-    """A plain run with drawn deeds, and the state of a watched system that it has come to."""
+    """A plain run, and the state of a watched system that it has come to."""
 
-    def __init__(self, case, draw, system):
-        self.case, self.draw, self.system = case, draw, system
+    def __init__(self, system):
+        self.system = system
         self.run = PlainRun(system.book)
         # The numbers in the run of the watched edits that have been made.
         self.numbers = []
-        self.phase_cells = [{system.x, system.z}] if system.edits == 1 else [{system.x}, {system.z}]
+        self.touched = [{system.x, system.z}] if system.edits == 1 else [{system.x}, {system.z}]
 
     def bit(self, shown, cell, watched):
         if not watched:
@@ -164,21 +164,68 @@ class Follower:
                 drawings.append((at, *self.pair(drawing["read"], at), since))
         return (len(self.numbers), tuple(tiles), tuple(sorted(drawings)))
 
-    def step(self):
+    def takes_edit(self, first, last):
+        """Whether an edit of this stretch can be the next watched one."""
+        left = self.touched[len(self.numbers):]
+        return left != [] and all(first <= cell <= last for cell in left[0])
+
+    def step(self, draw):
         """One drawn deed; an edit that can be the next watched one is taken for it now and then."""
-        kind = self.draw.randrange(4)
+        kind = draw.randrange(4)
         system = self.system
         if kind == 0:
             near = [system.x, system.z, system.x + 1, system.z - 1, system.x - system.book.ladder.side(0)]
-            first, last = sorted((self.draw.choice(near), self.draw.choice(near)))
+            first, last = sorted((draw.choice(near), draw.choice(near)))
             number = self.run.edit(first, last)
-            left = self.phase_cells[len(self.numbers):]
-            if left and all(first <= cell <= last for cell in left[0]) and self.draw.random() < 0.7:
+            if self.takes_edit(first, last) and draw.random() < 0.7:
                 self.numbers.append(number)
         elif kind == 1 and self.run.drawings:
-            self.run.end(self.draw.choice(sorted(self.run.drawings)))
+            self.run.end(draw.choice(sorted(self.run.drawings)))
         elif self.run.marks:
-            self.run.begin(*self.draw.choice(sorted(self.run.marks)))
+            self.run.begin(*draw.choice(sorted(self.run.marks)))
+
+
+class Walks(Case):
+
+    def test_a_run_can_go_wherever_deeds_lead_from_state_to_state(self):
+        late = 0
+        for number in range(200):
+            draw = random.Random(number)
+            system = drawn_system(draw, drawn_book(draw, draw.random() < 0.5, **({"drop": True} if number % 2 else {})))
+            play, states, code, follower = Play(system), system.states, 0, Follower(system)
+            for _ in range(25):
+                after = draw.choice(states.nexts(code))
+                play.step(code, after)
+                code, state = after, states.numbering.state_of(after)
+                for word, *numbers in play.deeds()[len(follower.run.done):]:
+                    self.assertNotIsInstance(getattr(follower.run, word)(*numbers), Exception)
+                    # The only edit of the step.
+                    if word == "edit" and state[0] > len(follower.numbers):
+                        self.assertTrue(follower.takes_edit(*numbers))
+                        follower.numbers.append(len(follower.run.edits))
+                self.same(follower.state(), state)
+                late += any(drawing[3] for drawing in state[2])
+        self.assertGreater(late, 100)
+
+    def test_shortest_stretches(self):
+        """The fewer tiles an edit marks, the fewer have to be drawn where they bar a begin."""
+        for number in range(100):
+            system = drawn_system(random.Random(number))
+            side, (level, first, last) = system.book.ladder.side(system.look[0]), system.look
+            if system.book.ladder.period > 16:
+                continue
+            plain = plain_of(system)
+            cells = range((first - 3) * side, (last + 4) * side + 1)
+            first_touched = (system.x, system.z) if system.edits == 1 else (system.x,)
+            for kind, touched in enumerate([(), first_touched, (system.z,)]):
+                widths = {}
+                for begin, end in combinations_with_replacement(cells, 2):
+                    if all(begin <= cell <= end for cell in touched):
+                        bundle = plain.bundle(begin, end)
+                        widths[bundle] = min(end - begin, widths.get(bundle, end - begin))
+                for bundle, (begin, end) in system.shortest(kind).items():
+                    self.same([plain.bundle(begin, end), end - begin], [bundle, widths[bundle]])
+                    self.assertTrue(all(begin <= cell <= end for cell in touched))
 
 
 class Following(Case):
@@ -188,11 +235,11 @@ class Following(Case):
         for number in range(250):
             draw = random.Random(7000 + number)
             system = drawn_system(draw)
-            follower = Follower(self, draw, system)
+            follower = Follower(system)
             state = follower.state()
             self.same(state, system.start())
             for _ in range(40):
-                follower.step()
+                follower.step(draw)
                 after = follower.state()
                 if after != state:
                     self.assertIn(after, system.nexts(state), (system, follower.run.done))
@@ -210,9 +257,9 @@ class Following(Case):
                 wrong = {wish: wrong_states(system, wish) for wish in wishes_of(system)}
             except TooMany:
                 continue
-            follower = Follower(self, draw, system)
+            follower = Follower(system)
             for _ in range(40):
-                follower.step()
+                follower.step(draw)
                 state = follower.state()
                 if "fresh" in wrong and follower.run.at_rest() and state[0] == 1 and state[1][-1][1] == 0:
                     self.assertIn(state, wrong["fresh"])
