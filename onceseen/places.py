@@ -75,8 +75,8 @@ def wrong_of_kinds(book, wish, look):
 
 def ends(book, level):
     """The sorted list of the ends for the level from 0 up to, not including, its side."""
-    check_level(level, book.ladder.levels)
-    return _ends_from(book, level, 0, book.ladder.side(level) - 1)
+    side = book.ladder.side(level)
+    return _ends_from(book, level, 0, side - 1)
 
 
 def place_of(book, level, cell):

@@ -58,6 +58,16 @@ class Safe(Case):
                   [True, False, True])
         self.same(is_safe(z=4, x=3, look=LOOK, wish="whole", book=Book(PLAIN, wait=False)), True)
 
+    def test_with_one_edit_alone_it_goes_wrong(self):
+        # An edit of the cells 0 to 3 does not mark the tile 1, which holds the cell 3; so the look has both cells at
+        # the tile 0 and lacks the later one at the tile 1. With two edits it would have to lack the cell 0.
+        passed = (Book(LACKING), "whole", (0, 0, 1), 0, 3)
+        system, two = (System(passed[0], (0, 0, 1), 0, 3, edits=edits) for edits in (1, 2))
+        self.same([never(system, "whole"), never(two, "whole"), is_safe(*passed)], [False, True, False])
+        self.fails(NotSafe(), needless, *passed)
+        self.same([freest(*passed), mends(*passed)], [[], []])
+        self.same(is_safe(Book(LACKING), "whole", (0, 0, 1), 3, 0), False)
+
     def test_with_two_edits_alone_it_goes_wrong(self):
         # A single edit of both cells marks both tiles; of two edits the first one may be lacking for ever.
         book = Book(Margins(Ladder(4, [], [(1, 1)]), [(1, 0)]), wait=True)

@@ -3,6 +3,7 @@
 import inspect
 import unittest
 from itertools import product
+from unittest.mock import patch
 
 from onceseen.books import Book
 from onceseen.errors import (InvalidCell, InvalidCount, InvalidEdits, InvalidLook, InvalidState, InvalidWish, NotHeld,
@@ -10,6 +11,7 @@ from onceseen.errors import (InvalidCell, InvalidCount, InvalidEdits, InvalidLoo
 from onceseen.history import History
 from onceseen.ladders import Ladder
 from onceseen.margins import Margins
+from onceseen.states import MOST_STATES
 from onceseen.systems import System
 from tests.checking import FAR, NO_INTEGERS, Case, no_looks
 from tests.test_books import DEFAULTS
@@ -410,6 +412,15 @@ class TooManyStates(Case):
     def test_tables_of_more_than_5000_states(self):
         book = Book(TALL, order="any", hands=2, alone=False, drop=True, unmark="end")
         self.fails(TooMany("states", 5000), System(book, (2, 0, 0), 3, 8, edits=2).table)
+
+    def test_just_as_many_as_are_told_and_one_more(self):
+        self.same(MOST_STATES, 5000)
+        for system in (single(), LOOSE):
+            many = len(system.table())
+            with patch("onceseen.states.MOST_STATES", many):
+                self.same(len(system.table()), many)
+            with patch("onceseen.states.MOST_STATES", many - 1):
+                self.fails(TooMany("states", many - 1), system.table)
 
 
 class Comparing(Case):
