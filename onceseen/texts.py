@@ -132,7 +132,8 @@ def read_book(text):
     cares = _read_cares(reading)
     if not reading.at_end():
         reading.fail()
-    return Book(Margins(Ladder(side, factors, edges), pairs), **cares)
+    margins = Margins(Ladder(side, factors, edges), pairs)
+    return Book(margins, **cares)
 
 
 def line_of(deed):

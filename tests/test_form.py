@@ -76,6 +76,55 @@ def plainly_number(node):
     return isinstance(node, ast.Constant) or is_call_of(node, "int", "len", "str")
 
 
+def properties():
+    """The names of all properties of the package."""
+    methods = [part for _, node in nodes(ast.ClassDef) for part in node.body if isinstance(part, ast.FunctionDef)]
+    return {part.name for part in methods if "property" in [ast.unparse(one) for one in part.decorator_list]}
+
+
+def methods_and_attributes(tree):
+    """The names of the functions of a file, those in classes too, and of the attributes that it assigns."""
+    names = [node.name for node in ast.walk(tree) if isinstance(node, ast.FunctionDef)]
+    return names + [node.attr for node in ast.walk(tree)
+                    if isinstance(node, ast.Attribute) and isinstance(node.ctx, ast.Store)]
+
+
+def plain_off_name(node, barred):
+    """Whether this is a name, or an attribute off a name that is none of the barred ones."""
+    if isinstance(node, ast.Attribute):
+        return isinstance(node.value, ast.Name) and node.attr not in barred
+    return isinstance(node, ast.Name)
+
+
+def plain_beside_star(node, barred):
+    """Whether this may stand in a call with stars: plain as above, a literal, or a list, tuple or dict of these."""
+    if isinstance(node, (ast.List, ast.Tuple)):
+        return all(plain_beside_star(one, barred) for one in node.elts)
+    if isinstance(node, ast.Dict):
+        return all(one is not None and plain_beside_star(one, barred) for one in node.keys + node.values)
+    return isinstance(node, ast.Constant) or plain_off_name(node, barred)
+
+
+def place(node):
+    """Where this stands in its file."""
+    return (node.lineno, node.col_offset)
+
+
+def keeps_star_rule(call, barred):
+    """Whether a call keeps L7, Calls with stars: an argument ahead of all stars is free unless ** stands beside it."""
+    stars = [arg for arg in call.args if isinstance(arg, ast.Starred)]
+    doubled = [word.value for word in call.keywords if word.arg is None]
+    if not stars and not doubled:
+        return True
+    if doubled and len(call.keywords) > 1 or not all(plain_off_name(one, barred) for one in doubled):
+        return False
+    if any(place(word) < place(star) for word in call.keywords for star in stars):
+        return False
+    beside = call.args if doubled else call.args[call.args.index(stars[0]):]
+    beside = beside + [word.value for word in call.keywords]
+    return all(plain_beside_star(one.value if isinstance(one, ast.Starred) else one, barred) for one in beside)
+
+
 class Files(unittest.TestCase):
 
     def test_the_folder_holds_plain_python_files_alone(self):
@@ -138,6 +187,29 @@ class Parts(unittest.TestCase):
         for home, names in INTERFACE.items():
             for name in names:
                 self.assertIn(name, homes[home])
+
+
+class Stars(unittest.TestCase):
+
+    def test_calls_with_stars(self):
+        barred = properties()
+        for name, node in nodes(ast.Call):
+            self.assertTrue(keeps_star_rule(node, barred), (name, node.lineno, ast.unparse(node)))
+
+    def test_no_method_hides_what_two_stars_ask_for(self):
+        self.assertEqual([name for name, tree in trees() if "keys" in methods_and_attributes(tree)], [])
+
+    def test_rows_that_keep_the_rule(self):
+        for row in ("f(*xs)", "f(k, *xs)", "f(*xs, n, sep=n)", "f(**d)", "f(box.rows, **box.cares)", "f(g(x), *xs)",
+                    "f(*[a, 1], (b, {'c': d}))", "f(g(x), h=1)", "f(*self._rows, other)", "Book(margins, **cares)"):
+            self.assertTrue(keeps_star_rule(ast.parse(row, mode="eval").body, {"many"}), row)
+
+    def test_rows_that_break_the_rule(self):
+        for row in ("f(g(x), **d)", "f(*g(x))", "f(**g(x))", "f(*xs, g(x))", "f(*xs, n=g(x))", "f(*box.many)",
+                    "f(box.many, **d)", "f(**box.many)", "f(a + b, **d)", "f(xs[0], **d)", "f(*[g(x)])",
+                    "f([g(x)], **d)", "f(n=1, **d)", "f(**c, **d)", "f(n=1, *xs)", "f(**{'a': 1})", "f(*xs, a.b.c)",
+                    "f(-n, *xs, **d)", "Book(Margins(Ladder(side, factors, edges), pairs), **cares)"):
+            self.assertFalse(keeps_star_rule(ast.parse(row, mode="eval").body, {"many"}), row)
 
 
 class Names(unittest.TestCase):
